@@ -1,0 +1,1 @@
+"""Words that may be turned round, told by roots."""
