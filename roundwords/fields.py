@@ -25,19 +25,6 @@ def plus(field, one, other):
     return total
 
 
-def minus(field, one, other):
-    """The thing that together with other is one."""
-    p = field[0]
-    total = 0
-    unit = 1
-    while one > 0 or other > 0:
-        total += (one - other) % p * unit
-        one //= p
-        other //= p
-        unit *= p
-    return total
-
-
 def digit_times(field, digit, one):
     """Each digit of one taken so many times."""
     p = field[0]
@@ -48,6 +35,12 @@ def digit_times(field, digit, one):
         one //= p
         unit *= p
     return total
+
+
+def minus(field, one, other):
+    """The thing that together with other is one."""
+    # p - 1 of a digit and the digit itself are 0 by rests by p.
+    return plus(field, one, digit_times(field, field[0] - 1, other))
 
 
 def lifted(field, one):
