@@ -39,3 +39,12 @@ def is_prime(number):
 def steps_round(n):
     """All numbers from 1 to n that share no divisor above 1 with n, rising."""
     return [step for step in range(1, n + 1) if greatest_common(step, n) == 1]
+
+
+def choices(n, k):
+    """The number of ways to choose k of n."""
+    ways = 1
+    for at in range(k):
+        # Parted behind each step, ways is how many there are to choose at + 1 of n: a whole number.
+        ways = ways * (n - at) // (at + 1)
+    return ways
