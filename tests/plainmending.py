@@ -5,7 +5,18 @@ import itertools
 import random
 
 import plainwheels
-from plainly import table
+from plainly import table, trimmed
+
+# Wheels, each with its best row paper, that are too long to go through all their tuples.
+LONG = [
+    (((2, 4, 3), 4, 2, tuple(range(1, 7))), (1, 1, 6)), (((2, 4, 3), 4, 9, tuple(range(3, 12))), (3, 1, 9)),
+    (plainwheels.FIFTEEN + ((1, 2, 3, 4, 6, 8, 9, 12),), (1, 1, 4)),
+    (plainwheels.FIFTEEN + ((0, 1, 2, 3, 4, 5, 6, 8, 9, 10, 12),), (0, 1, 7)),
+    (((3, 2, 2), 2, 4, (0, 1, 3, 4, 6)), (0, 3, 5)), (((7, 1, 0), 1, 3, (0, 1, 2, 5)), (2, 5, 4)),
+    (((3, 2, 2), 1, 4, (1, 3)), (1, 1, 1)),
+    (((2, 6, 3), 1, 2, (1, 2, 3, 4, 6, 8, 12, 16, 24, 32, 33, 48)), (1, 1, 4)),
+    (((2, 6, 3), 6, 2, tuple(range(5, 13))), (5, 1, 8)), (((61, 1, 0), 1, 2, tuple(range(55, 60))), (55, 1, 5)),
+]
 
 
 @functools.lru_cache(maxsize=None)
@@ -14,6 +25,26 @@ def row_papers(wheel):
     n = plainwheels.length(wheel[0], wheel[2])
     return tuple(paper for paper in itertools.product(range(n), range(1, n + 1), range(n + 1))
                  if plainwheels.shows_row(wheel, *paper))
+
+
+def papers_within(wheel, paper):
+    """The paper, the same one the other way round, and shorter ones."""
+    n = plainwheels.length(wheel[0], wheel[2])
+    first, step, many = paper
+    last = (first + (many - 1) * step) % n
+    papers = [paper, (last, n - step, many), (first, step, many - 1), ((first + step) % n, step, many - 1),
+              (last, n - step, 1), (first, step, 0)]
+    assert all(plainwheels.shows_row(wheel, *paper) for paper in papers), wheel
+    return papers
+
+
+def long_cases():
+    """(wheel, its letters, its length, paper) for the papers within those of the long wheels."""
+    for wheel, best in LONG:
+        own = table(wheel[0]).letters(wheel[1])
+        n = plainwheels.length(wheel[0], wheel[2])
+        for paper in papers_within(wheel, best):
+            yield wheel, own, n, paper
 
 
 def some(things, many):
@@ -30,6 +61,16 @@ def drawer(seed):
 
 def drawn(draw, own, many):
     return tuple(own[draw.randrange(len(own))] for _ in range(many))
+
+
+def drawn_word(draw, wheel):
+    """A multiple of the maker."""
+    field, few, root, marks = wheel
+    known = table(field)
+    n = plainwheels.length(field, root)
+    by = trimmed(drawn(draw, known.letters(few), n - len(marks)))
+    row = known.row_times(plainwheels.maker(field, root, marks), by)
+    return row + (0,) * (n - len(row))
 
 
 def root_power(field, root, many):
