@@ -9,6 +9,12 @@ def length(wheel):
     return round_of(wheel[0], wheel[2])
 
 
+def with_marks(wheel, marks):
+    """The wheel, alike but for its marks: these, handed in rising."""
+    field, few, root, before = wheel
+    return (field, few, root, tuple(marks))
+
+
 def is_rising(thing, n):
     """Whether it is a rising tuple of numbers from 0 to n - 1."""
     if not isinstance(thing, tuple):
