@@ -37,6 +37,7 @@ def times(field, one, other):
     return number(p, total)
 
 
+@functools.lru_cache(maxsize=None)
 def parts_nought(field):
     size = field[0] ** field[1]
     for one in range(1, size):

@@ -117,6 +117,20 @@ class Form(unittest.TestCase):
             if isinstance(node, ast.Call) and isinstance(node.func, ast.Attribute):
                 self.assertIn(node.func.attr, METHODS | own, (path.name, node.lineno))
 
+    def test_values_of_objects(self):
+        methods = {item.name for _, node in nodes() if isinstance(node, ast.ClassDef) for item in node.body
+                   if isinstance(item, ast.FunctionDef)}
+        given, asked = set(), set()
+        for tree in [tree for _, tree in trees()]:
+            called = {id(node.func) for node in ast.walk(tree) if isinstance(node, ast.Call)}
+            for node in ast.walk(tree):
+                if isinstance(node, ast.Attribute) and isinstance(node.ctx, ast.Store):
+                    given.add(node.attr)
+                elif isinstance(node, ast.Attribute) and id(node) not in called:
+                    asked.add(node.attr)
+        self.assertLessEqual(asked, given)
+        self.assertFalse(given & (methods | METHODS))
+
     def test_imports_come_from_the_file_that_defines_them_and_never_round(self):
         draws = {}
         defined = {}
